@@ -37,6 +37,11 @@ INTERFACE = {
     "trees": {"is_well_formed": "sealer tree", "summary_of": "sealer tree", "row_of": "sealer tree",
               "top_row": "sealer tree", "root_of": "sealer tree", "build": "leaves", "leaves_of": "tree",
               "get": "tree name", "put": "tree leaf", "drop": "tree name"},
+    "pruning": {"prune": "sealer tree names", "prune_for": "sealer tree question",
+                "join_trees": "sealer first second", "open_count": "tree"},
+    "questions": {"ask": "sealer tree question"},
+    "checking": {"answer": "sealer root tree question"},
+    "collisions": {"find_collision": "sealer first second", "search_collision": "sealer rows"},
 }
 METHODS = {("seals", "Sealer"): {"modulus": "self", "seal": "self row"}}
 
