@@ -14,6 +14,11 @@ def leaf(name, worths=(1,), notes=()):
     return ("leaf", name, worths, notes)
 
 
+def noted(locks=(0, 0, 0), need=0, limit=0, hold=(0, 0, 0)):
+    """The notes of an account."""
+    return (*locks, need, limit, *hold)
+
+
 def letters(text):
     """The tree of leaves with one letter each; the worth is the place in the alphabet from 1."""
     return build([leaf(letter, (ord(letter) - 96,)) for letter in text])

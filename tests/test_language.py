@@ -42,6 +42,15 @@ INTERFACE = {
     "questions": {"ask": "sealer tree question"},
     "checking": {"answer": "sealer root tree question"},
     "collisions": {"find_collision": "sealer first second", "search_collision": "sealer rows"},
+    "texts": {"write_tree": "tree", "read_tree": "sealer text"},
+    "refusals": {"InvalidRules": None, "InvalidNotes": None, "InvalidGroup": "index", "GroupRefused": "index word",
+                 "TooManyEpochs": None, "NoSuchEpoch": "epoch", "CutOff": "epoch", "InvalidShelf": "most",
+                 "BookRefused": "place index word", "InvalidHouse": None, "InvalidValue": "value",
+                 "SignedAlready": "epoch", "BadStatement": None, "InvalidLine": "body", "NoAccount": "name"},
+    "accounts": {"lock_of": "sealer key", "is_notes": "notes kinds modulus", "is_enough": "notes worths epoch",
+                 "new_account": "name kinds notes", "are_accounts": "sealer kinds tree"},
+    "deeds": {"Rules": "kinds fee rates", "Group": "deeds signatures epoch", "check_group": "sealer rules group",
+              "group_names": "rules group", "minted": "group kind"},
 }
 METHODS = {("seals", "Sealer"): {"modulus": "self", "seal": "self row"}}
 
