@@ -2,6 +2,7 @@
 
 from random import Random
 
+from sumgrove.accounts import lock_of
 from sumgrove.seals import Sealer
 from sumgrove.trees import build, summary_of
 
@@ -17,6 +18,31 @@ def leaf(name, worths=(1,), notes=()):
 def noted(locks=(0, 0, 0), need=0, limit=0, hold=(0, 0, 0)):
     """The notes of an account."""
     return (*locks, need, limit, *hold)
+
+
+def lock(key):
+    return lock_of(SEALER, key)
+
+
+def locked(*keys, need=1, limit=0, hold=(0, 0, 0)):
+    """The notes of an account with the locks of these keys."""
+    locks = [lock(key) for key in keys] + [0] * (3 - len(keys))
+    return noted(tuple(locks), need, limit, hold)
+
+
+def signed(name, *keys):
+    """A signature with keys for the places from 0 on; each next lock is that of the key plus 100."""
+    return (name, tuple((place, key, lock(key + 100)) for place, key in enumerate(keys)))
+
+
+def accounts(**rows):
+    """The tree of accounts that are given as name=(worths, notes) or name=worths, with notes of zeros."""
+    return build([leaf(name, *row) if isinstance(row[0], tuple) else leaf(name, row, noted())
+                  for name, row in rows.items()])
+
+
+def refused(index, word):
+    return ("GroupRefused", {"index_of_deed": index, "word": word})
 
 
 def letters(text):

@@ -70,6 +70,10 @@ class RulesTest(unittest.TestCase):
         for rate in ((0, 1), (1, 0), (-1, 1), (1, -1), (1001, 1), (1, 1001)):
             self.bad(2, 0, {(0, 1): rate})
 
+    def test_lengths_of_the_rates(self):
+        for rates in ({(0, 1, 2): (1, 1)}, {(0,): (1, 1)}, {(0, 1): (1, 1, 1)}, {(0, 1): (1,)}, {(0, 1): ()}):
+            self.bad(3, 0, rates)
+
     def test_each_rate(self):
         good = {(0, 1): (1, 1), (1, 0): (1, 1), (0, 2): (1, 1), (2, 0): (1, 1)}
         self.assertEqual(Rules(3, 0, good).rates, good)

@@ -51,8 +51,23 @@ INTERFACE = {
                  "new_account": "name kinds notes", "are_accounts": "sealer kinds tree"},
     "deeds": {"Rules": "kinds fee rates", "Group": "deeds signatures epoch", "check_group": "sealer rules group",
               "group_names": "rules group", "minted": "group kind"},
+    "groups": {"do_group": "sealer rules epoch tree group"},
+    "epochs": {"epoch_name": "number", "Chronicle": "sealer", "Shelf": "most",
+               "check_growth": "sealer old_top old_length top length tree"},
+    "copies": {"Copy": "sealer rules epoch root tree"},
+    "books": {"do_all": "sealer rules epoch tree groups", "join_books": "sealer rules epoch tree first second",
+              "are_apart": "rules group other"},
 }
-METHODS = {("seals", "Sealer"): {"modulus": "self", "seal": "self row"}}
+METHODS = {
+    ("seals", "Sealer"): {"modulus": "self", "seal": "self row"},
+    ("epochs", "Chronicle"): {
+        "add": "self root count receipts", "length": "self", "top": "self", "tree": "self", "root_of": "self epoch",
+        "count_of": "self epoch", "receipts_of": "self epoch", "show": "self epochs", "growth": "self old_length"},
+    ("epochs", "Shelf"): {"keep": "self epoch tree", "snapshot": "self epoch", "kept": "self",
+                          "keep_all": "self rows length"},
+    ("copies", "Copy"): {"root": "self", "tree": "self", "epoch": "self", "grow": "self tree", "do": "self group",
+                         "answer": "self question", "forget": "self names", "next_epoch": "self"},
+}
 
 
 def nodes(kind):

@@ -123,8 +123,8 @@ class ReasonsTest(unittest.TestCase):
         self.check(lines("branch", "branch branch"), 2, "form")
 
     def test_form_of_integers(self):
-        for word in ("", "-", "+", "+1", "-1", "01", "00", "x", "1x", "x1", "1.0", "1_0", "0x1", "1,", ",1", ",", "1,,2",
-                     "1,-", "1,02", "1,+2", "1,-2", "1;2", "\u0661", "\u00b2", "1\u0661", "1\t", "1\r", "-0",
+        for word in ("", "-", "+", "+1", "-1", "01", "00", "x", "1x", "x1", "1.0", "1_0", "0x1", "1,", ",1", ",",
+                     "1,,2", "1,-", "1,02", "1,+2", "1,-2", "1;2", "\u0661", "\u00b2", "1\u0661", "1\t", "1\r", "-0",
                      "1" + "0" * 25, "9" * 26, "0" * 25, "1," + "1" * 26, "1" * 5000):
             self.check(f"leaf a {word} -", 1, "form")
             self.check(f"cut 5 2 {word} b d", 1, "form")
@@ -161,10 +161,11 @@ class ReasonsTest(unittest.TestCase):
         for line in ("cut 0 1 0 a a", "cut 100 1 0 a a", f"cut 5 {10 ** 24} 7 b d", f"cut 5 2 {10 ** 24} b d",
                      "cut 5 2 1,2,3 b d", "cut 5 2 7 abcdefgg abcdefgh"):
             self.good(line, Sealer(101))
-        for line in ("cut 101 2 7 b d", "cut 102 2 7 b d", "cut 5 0 7 b d", "cut 5 0 7 b b", f"cut 5 {10 ** 24 + 1} 7 b d",
-                     f"cut 5 2 {10 ** 24 + 1} b d", f"cut 5 2 0,{10 ** 24 + 1} b d", "cut 5 2 1,2,3,4 b d",
-                     "cut 5 2 7 B d", "cut 5 2 7 b D", "cut 5 2 7 b abcdefghi", "cut 5 2 7 - d", "cut 5 2 7 b b",
-                     "cut 5 2 7 d b", "cut 5 1 7 b d", "cut 5 1 7 d b", "cut 5 1 7 B B"):
+        for line in ("cut 101 2 7 b d", "cut 102 2 7 b d", "cut 5 0 7 b d", "cut 5 0 7 b b",
+                     f"cut 5 {10 ** 24 + 1} 7 b d", f"cut 5 2 {10 ** 24 + 1} b d", f"cut 5 2 0,{10 ** 24 + 1} b d",
+                     "cut 5 2 1,2,3,4 b d", "cut 5 2 7 B d", "cut 5 2 7 b D", "cut 5 2 7 b abcdefghi",
+                     "cut 5 2 7 - d", "cut 5 2 7 b b", "cut 5 2 7 d b", "cut 5 1 7 b d", "cut 5 1 7 d b",
+                     "cut 5 1 7 B B"):
             self.check(line, 1, "cut", Sealer(101))
 
     def test_kinds(self):
@@ -201,6 +202,10 @@ class ReasonsTest(unittest.TestCase):
                    "order")
         self.check(lines("branch", "branch", "leaf z 1 -", "leaf y 1 -", "branch", "leaf d 1 -", "leaf b 1 -"), 1,
                    "order")
+
+    def test_order_goes_by_the_outermost_names_of_a_side(self):
+        self.check(lines("branch", "branch", "cut 5 2 7 b z", "leaf c 1 -", "leaf e 1 -"), 2, "order")
+        self.check(lines("branch", "leaf c 1 -", "branch", "leaf e 1 -", "cut 5 2 7 b h"), 3, "order")
 
     def test_deep_texts(self):
         self.check("\n".join(["branch"] * 3000), 3001, "missing")
