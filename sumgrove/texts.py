@@ -111,10 +111,10 @@ def read_numbers(word):
     return tuple([int(one) for one in written])
 
 
-def is_written_number(text):
-    """Return True if a text writes an integer in at most 25 digits without a leading zero, otherwise False."""
+def is_written_number(text, most_digits=MOST_DIGITS):
+    """Return True if a text writes an integer in so many digits at most and without a leading zero, otherwise False."""
     return (
-        1 <= len(text) <= MOST_DIGITS
+        1 <= len(text) <= most_digits
         and all([character in DIGITS for character in text])
         and (text == "0" or text[0] != "0")
     )

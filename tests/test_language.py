@@ -57,6 +57,14 @@ INTERFACE = {
     "copies": {"Copy": "sealer rules epoch root tree"},
     "books": {"do_all": "sealer rules epoch tree groups", "join_books": "sealer rules epoch tree first second",
               "are_apart": "rules group other"},
+    "houses": {"House": "sealer seed last"},
+    "auditors": {"holds": "sealer marks card statement", "check_paper": "sealer marks paper",
+                 "opened_twice": "sealer paper", "Auditor": "sealer marks"},
+    "trails": {"BadStep": "place", "row_of_group": "group", "mark_of_group": "sealer group", "Receipts": "sealer",
+               "check_receipt": "sealer receipts_root number group root tree",
+               "step_of": "sealer rules tree group", "check_trail": "sealer rules epoch before trail"},
+    "journals": {"write_group": "group", "read_group": "body", "group_line": "group", "end_line": "",
+                 "readable_length": "text", "read_lines": "text"},
 }
 METHODS = {
     ("seals", "Sealer"): {"modulus": "self", "seal": "self row"},
@@ -67,6 +75,11 @@ METHODS = {
                           "keep_all": "self rows length"},
     ("copies", "Copy"): {"root": "self", "tree": "self", "epoch": "self", "grow": "self tree", "do": "self group",
                          "answer": "self question", "forget": "self names", "next_epoch": "self"},
+    ("houses", "House"): {"marks": "self", "card": "self epoch", "sign": "self epoch value",
+                          "sign_again": "self epoch value"},
+    ("auditors", "Auditor"): {"hear": "self card statement", "kept": "self", "meet": "self other",
+                              "heard": "self epoch"},
+    ("trails", "Receipts"): {"add": "self group root", "root": "self", "show": "self number"},
 }
 
 
