@@ -28,8 +28,9 @@ class Stop(Exception):
 class Model:
     """A group on a dict from names to (worths, notes), step by step as the points 83 to 86 say it."""
 
-    def __init__(self, rules, accounts, hidden, closed):
+    def __init__(self, rules, accounts, hidden, closed, epoch):
         self.rules = rules
+        self.epoch = epoch
         self.now = {name: ([*worths], notes) for name, (worths, notes) in accounts.items()}
         # For each name: its notes, how many keys it showed, and what it gave of each kind.
         self.counts = {name: [notes, 0, [0, 0, 0]] for name, (_, notes) in accounts.items()}
@@ -75,7 +76,7 @@ class Model:
             if notes[4] and given[kind] > notes[4]:
                 self.stop("limit")
         worths[kind] -= amount
-        if EPOCH < notes[7] and worths[notes[5]] < notes[6]:
+        if self.epoch < notes[7] and worths[notes[5]] < notes[6]:
             self.stop("held")
         if other is not None:
             self.take(other, kind, amount)
@@ -142,11 +143,11 @@ class Model:
         self.now[name] = (self.now[name][0], notes)
 
 
-def model_outcome(rules, accounts, group, hidden=(), closed=()):
+def model_outcome(rules, accounts, group, hidden=(), closed=(), epoch=EPOCH):
     """("returned", accounts), or the error; looking at the hidden names and opening the closed ones is not possible."""
-    model = Model(rules, accounts, hidden, closed)
+    model = Model(rules, accounts, hidden, closed, epoch)
     try:
-        if group.epoch != EPOCH:
+        if group.epoch != epoch:
             model.stop("epoch")
         for name, triples in group.signatures:
             model.sign(name, triples)

@@ -1,4 +1,4 @@
-"""The rules of LANGUAGE.md that a reading of the syntax trees can check, and the names of the interface."""
+"""The rules of LANGUAGE.md that a reading of the syntax trees can check, and the names of the whole interface."""
 
 import ast
 import builtins
@@ -65,6 +65,13 @@ INTERFACE = {
                "step_of": "sealer rules tree group", "check_trail": "sealer rules epoch before trail"},
     "journals": {"write_group": "group", "read_group": "body", "group_line": "group", "end_line": "",
                  "readable_length": "text", "read_lines": "text"},
+    "changes": {"Uneven": "name", "change_paper": "sealer first second",
+                "check_change": "sealer first_root second_root paper"},
+    "ledgers": {"Ledger": "sealer rules notes", "restart": "sealer rules notes text"},
+    "saving": {"InvalidSave": "line", "save_ledger": "ledger", "load_ledger": "sealer rules notes text"},
+    "wallets": {"UnknownKeys": "name", "Wallet": "sealer seed"},
+    "watchers": {"ReportRefused": "word", "Watcher": "sealer rules marks root", "report_of": "ledger house trail",
+                 "audit": "watcher other"},
 }
 METHODS = {
     ("seals", "Sealer"): {"modulus": "self", "seal": "self row"},
@@ -80,6 +87,17 @@ METHODS = {
     ("auditors", "Auditor"): {"hear": "self card statement", "kept": "self", "meet": "self other",
                               "heard": "self epoch"},
     ("trails", "Receipts"): {"add": "self group root", "root": "self", "show": "self number"},
+    ("ledgers", "Ledger"): {
+        "root": "self", "tree": "self", "epoch": "self", "chronicle": "self", "shelf": "self", "journal": "self",
+        "do": "self group", "do_batch": "self groups", "end_epoch": "self", "receipts": "self", "trail": "self",
+        "answer": "self question", "show": "self question", "show_names": "self names", "worth": "self name kind",
+        "total": "self kind", "parts": "self", "take_over": "self parts"},
+    ("wallets", "Wallet"): {
+        "add": "self name keys", "all_keys": "self name", "names": "self", "fresh": "self",
+        "notes_for": "self need places limit hold", "remember": "self name", "sign": "self name need",
+        "done": "self signatures", "undone": "self"},
+    ("watchers", "Watcher"): {"take": "self card statement trail growth", "root": "self", "top": "self",
+                              "length": "self", "auditor": "self"},
 }
 
 
@@ -196,6 +214,9 @@ class InterfaceTest(unittest.TestCase):
                 self.assertIn(name, defined_in(stem))
                 if parameters is not None:
                     self.check_parameters(getattr(module, name), parameters)
+
+    def test_each_file(self):
+        self.assertEqual(sorted(INTERFACE), sorted(stem for stem in TREES if stem != "__init__"))
 
     def test_methods_in_the_class_itself(self):
         for (stem, name), entries in METHODS.items():
