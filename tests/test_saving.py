@@ -9,7 +9,7 @@ from sumgrove.pruning import prune
 from sumgrove.refusals import InvalidNotes
 from sumgrove.saving import InvalidSave, load_ledger, save_ledger
 from sumgrove.seals import Sealer
-from sumgrove.texts import write_tree
+from sumgrove.texts import read_tree, write_tree
 from tests.helper import PRIME, SEALER, cut, leaf, locked, noted, outcome
 from tests.test_ledgers import RULES, burn, filled_ledger, group_of, new_ledger, opening, state_of
 
@@ -353,6 +353,33 @@ class BrokenTest(unittest.TestCase):
                 self.check(first + 1, self.changed(first, "leaf ann 1,1 0,0,0,0,0,0,0,0"))
                 # The sides of a branch are in a wrong order.
                 self.check(first, self.changed(last, "leaf 0 1,1 0,0,0,0,0,0,0,0"))
+
+    def test_lines_of_trees_left_out_doubled_and_put_in(self):
+        for number in self.heads():
+            words = self.lines[number - 1].split(" ")
+            if words[0] not in ("tree", "snapshot", "step"):
+                continue
+            first = number + 2 if words[0] == "step" else number + 1
+            many = int(words[-1])
+            for line in range(first, first + many):
+                same = self.lines[line - 1]
+                for lines in (self.changed(line), self.changed(line, same, same), self.changed(line, "branch", same),
+                              self.changed(line, "x", same), self.changed(line, "leaf zzz 0,0 0,0,0,0,0,0,0,0", same)):
+                    taken = "\n".join(lines[first - 1:first - 1 + many])
+                    word, told = outcome(read_tree, SEALER, taken)
+                    if word == "InvalidText":
+                        self.check(first + told["line"] - 1, lines)
+                    else:
+                        # The tree is whole without its last line, which is then behind it.
+                        self.check(first + many, lines)
+
+    def test_lines_of_groups_left_out_doubled_and_put_in(self):
+        for number in self.lines_with("step"):
+            group = self.lines[number]
+            self.check(number + 1, self.changed(number + 1))
+            self.check(number + 2, self.changed(number + 1, group, group))
+            self.check(number + 1, self.changed(number + 1, "x", group))
+            self.check(number + 1, self.changed(number + 1, "branch", group))
 
     def test_parts_that_cannot_be_there(self):
         good = "1,1 0,0,0,0,0,0,0,0"
